@@ -1,0 +1,1 @@
+"""Limitdesk: amounts under limits."""

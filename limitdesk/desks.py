@@ -1,6 +1,6 @@
 """Desks, points, and which limits of a desk a point keeps."""
 
-from limitdesk.errors import BadPoint, NoDesk
+from limitdesk.errors import BadPoint, NoDesk, NoPlace
 from limitdesk.fracs import below, frac, is_fraction, is_whole, plus
 
 MOST_KINDS = 4
@@ -39,6 +39,11 @@ def check_point(kinds, point):
         raise BadPoint("a point is a list with one fraction for each kind")
     if not all([is_fraction(amount) for amount in point]):
         raise BadPoint("an amount is a fraction without a common divisor, its lower number from 1 on")
+
+
+def check_place(count, place):
+    if not is_whole(place) or place < 0 or place >= count:
+        raise NoPlace("a place is a whole number from 0 to below how many there are")
 
 
 def weight(weights, point):

@@ -1,7 +1,7 @@
 import unittest
 from fractions import Fraction
-from math import gcd
 
+from desk_case import FractionCase
 from limitdesk.fracs import below, frac, less, over, plus, times, turned
 
 LARGE = 123456789012345678901234567890
@@ -17,18 +17,13 @@ def plain(fraction):
     return Fraction(fraction[0], fraction[1])
 
 
-class FractionCase(unittest.TestCase):
+class ToldCase(FractionCase):
     def assert_fraction(self, told, wanted):
-        self.assertIs(type(told), tuple)
-        self.assertEqual(len(told), 2)
-        self.assertIs(type(told[0]), int)
-        self.assertIs(type(told[1]), int)
-        self.assertGreaterEqual(told[1], 1)
-        self.assertEqual(gcd(told[0], told[1]), 1)
+        self.plain(told)
         self.assertEqual(told, (wanted.numerator, wanted.denominator))
 
 
-class Made(FractionCase):
+class Made(ToldCase):
     def test_written_out(self):
         for upper, lower, wanted in (
             (6, 4, (3, 2)), (-6, 4, (-3, 2)), (6, -4, (-3, 2)), (-6, -4, (3, 2)), (1, 1, (1, 1)), (1, -1, (-1, 1)),
@@ -61,7 +56,7 @@ class Made(FractionCase):
             self.assertRaises(ZeroDivisionError, over, (upper, 1), (0, 1))
 
 
-class Reckoned(FractionCase):
+class Reckoned(ToldCase):
     def test_written_out(self):
         self.assertEqual(plus((1, 6), (1, 3)), (1, 2))
         self.assertEqual(plus((1, 2), (-1, 2)), (0, 1))

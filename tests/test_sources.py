@@ -36,6 +36,10 @@ def nodes():
             yield path.name, node
 
 
+def is_set_by_self(node):
+    return isinstance(node.ctx, ast.Store) and isinstance(node.value, ast.Name) and node.value.id == "self"
+
+
 class Sources(unittest.TestCase):
     def test_there_are_files_of_python_alone(self):
         self.assertIn(PACKAGE / "__init__.py", FILES)
@@ -61,12 +65,15 @@ class Sources(unittest.TestCase):
                     self.assertIsInstance(node.ctx, ast.Load, (name, node.id))
             if isinstance(node, (ast.arg, ast.FunctionDef)):
                 word = node.arg if isinstance(node, ast.arg) else node.name
-                self.assertFalse(hasattr(builtins, word), (name, word))
+                self.assertFalse(word != "__init__" and hasattr(builtins, word), (name, word))
 
-    def test_methods(self):
+    def test_methods_and_values(self):
+        values = {node.attr for name, node in nodes() if isinstance(node, ast.Attribute) and is_set_by_self(node)}
+        for value in values:
+            self.assertFalse(any(hasattr(kind, value) for kind in (int, str, list, tuple, dict, set, bytes)), value)
         for name, node in nodes():
             if isinstance(node, ast.Attribute):
-                self.assertIn(node.attr, METHODS, name)
+                self.assertIn(node.attr, METHODS + sorted(values), name)
 
     def test_forms(self):
         for name, node in nodes():

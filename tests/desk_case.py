@@ -1,0 +1,314 @@
+"""What tests of desks have in common: the marks of each answer, by fractions of Python, and desks to try."""
+
+import contextlib
+import itertools
+import random
+import signal
+import unittest
+from fractions import Fraction
+from math import gcd
+
+from limitdesk.desks import desk_of
+from limitdesk.goals import best
+from limitdesk.judging import judged
+from limitdesk.limits import cover
+
+MOST = 10 ** 12 - 1
+MOST_SECONDS = 120
+NO_PLACES = (-1, -10 ** 30, 10 ** 30, True, False, "0", "", None, 0.0, (0, 1), [0], (), [], {}, object(), Fraction(0))
+
+
+def late(number, frame):
+    raise AssertionError("no answer came in time")
+
+
+class FractionCase(unittest.TestCase):
+    def plain(self, told):
+        self.assertIs(type(told), tuple)
+        self.assertEqual(len(told), 2)
+        self.assertIs(type(told[0]), int)
+        self.assertIs(type(told[1]), int)
+        self.assertGreaterEqual(told[1], 1)
+        self.assertEqual(gcd(told[0], told[1]), 1)
+        return Fraction(told[0], told[1])
+
+
+class DeskCase(FractionCase):
+    def setUp(self):
+        # A test whose steps come round for ever is to fail, not to hang.
+        before = signal.signal(signal.SIGALRM, late)
+        self.addCleanup(signal.signal, signal.SIGALRM, before)
+        self.addCleanup(signal.alarm, 0)
+        signal.alarm(MOST_SECONDS)
+
+    @contextlib.contextmanager
+    def seconds(self, count):
+        signal.alarm(count)
+        yield
+        signal.alarm(MOST_SECONDS)
+
+    def plain_list(self, told, length):
+        self.assertIs(type(told), list)
+        self.assertEqual(len(told), length)
+        return [self.plain(fraction) for fraction in told]
+
+    def rooms(self, desk, point):
+        amounts = self.plain_list(point, desk[0])
+        return [bound - plain_weight(weights, amounts) for weights, bound in desk[1]]
+
+    def assert_point(self, desk, point):
+        self.assertTrue(all(room >= 0 for room in self.rooms(desk, point)), (desk, point))
+
+    def summed(self, desk, shares):
+        """The weights and the bound to which the limits come by the shares."""
+        often = self.plain_list(shares, len(desk[1]))
+        self.assertTrue(all(share >= 0 for share in often), (desk, shares))
+        weights = [sum(s * limit[0][kind] for s, limit in zip(often, desk[1])) for kind in range(desk[0])]
+        return weights, sum(s * limit[1] for s, limit in zip(often, desk[1]))
+
+    def assert_clash(self, desk, shares):
+        weights, bound = self.summed(desk, shares)
+        self.assertEqual(weights, [0] * desk[0], (desk, shares))
+        self.assertLess(bound, 0, (desk, shares))
+
+    def told_kind(self, told, lengths):
+        self.assertIs(type(told), tuple)
+        self.assertIn(told[0], lengths)
+        self.assertEqual(len(told), lengths[told[0]])
+        return told[0]
+
+    def assert_judged(self, desk):
+        told = judged(desk)
+        kind = self.told_kind(told, {"point": 2, "clash": 2})
+        if kind == "point":
+            self.assert_point(desk, told[1])
+        else:
+            self.assert_clash(desk, told[1])
+        return kind
+
+    def assert_best(self, desk, goal):
+        """The kind of the answer, and the best worth if there is one; each by its marks."""
+        before = list(goal)
+        told = best(desk, goal)
+        self.assertEqual(goal, before)
+        kind = self.told_kind(told, {"best": 3, "endless": 3, "clash": 2})
+        if kind == "clash":
+            self.assert_clash(desk, told[1])
+            return kind, None
+        self.assert_point(desk, told[1])
+        if kind == "best":
+            worth = plain_weight(goal, self.plain_list(told[1], desk[0]))
+            self.assertEqual(self.summed(desk, told[2]), (goal, worth), (desk, goal, told))
+            return kind, worth
+        way = self.plain_list(told[2], desk[0])
+        self.assertTrue(all(plain_weight(weights, way) <= 0 for weights, bound in desk[1]), (desk, goal, told))
+        self.assertGreater(plain_weight(goal, way), 0, (desk, goal, told))
+        return kind, None
+
+    def assert_cover(self, desk, place):
+        told = cover(desk, place)
+        kind = self.told_kind(told, {"shares": 2, "clash": 2, "point": 2})
+        weights, bound = desk[1][place]
+        if kind == "point":
+            rooms = self.rooms(desk, told[1])
+            self.assertLess(rooms.pop(place), 0, (desk, place, told))
+            self.assertTrue(all(room >= 0 for room in rooms), (desk, place, told))
+            return kind
+        self.assertEqual(told[1][place], (0, 1), (desk, place, told))
+        if kind == "clash":
+            self.assert_clash(desk, told[1])
+            return kind
+        come_to = self.summed(desk, told[1])
+        self.assertEqual(come_to[0], list(weights), (desk, place, told))
+        self.assertLessEqual(come_to[1], bound, (desk, place, told))
+        return kind
+
+
+def plain_weight(weights, amounts):
+    return sum((number * amount for number, amount in zip(weights, amounts)), Fraction(0))
+
+
+def spoil(told):
+    """Changes every list in an answer."""
+    if isinstance(told, (list, tuple)):
+        for part in told:
+            spoil(part)
+    if isinstance(told, list):
+        told.append("spoilt")
+        told[0] = "spoilt"
+
+
+def made(kinds, rows):
+    """The desk of rows, each the weights and behind them the bound."""
+    return desk_of(kinds, [(list(row[:-1]), row[-1]) for row in rows])
+
+
+def rows_by_chance(chance, count, length, most):
+    return [[chance.randint(-most, most) for number in range(length)] for row in range(count)]
+
+
+def desks_by_chance(seed, each, most, bounds=None):
+    """Desks of every number of kinds and limits, numbers up to most of either sign, bounds those that are handed in."""
+    chance = random.Random(seed)
+    desks = []
+    for kinds, count in itertools.product(range(1, 5), range(11)):
+        for k in range(each):
+            rows = rows_by_chance(chance, count, kinds + 1, most)
+            if bounds is not None:
+                rows = [row[:-1] + [chance.randint(bounds[0], bounds[1])] for row in rows]
+            desks.append(made(kinds, rows))
+    return desks
+
+
+def desks_through_a_point(seed, each):
+    """Desks whose limits are all just at one point, some of them turned round or there twice."""
+    chance = random.Random(seed)
+    desks = []
+    for kinds, count in itertools.product(range(1, 5), range(1, 11)):
+        for k in range(each):
+            point = [chance.randint(-2, 2) for kind in range(kinds)]
+            rows = []
+            for place in range(count):
+                weights = [chance.randint(-2, 2) for kind in range(kinds)]
+                if rows and chance.random() < 0.3:
+                    weights = [chance.choice((-1, 1)) * number for number in chance.choice(rows)[:-1]]
+                rows.append(weights + [sum(w * x for w, x in zip(weights, point))])
+            desks.append(made(kinds, rows))
+    return desks
+
+
+def desks_of_few_numbers():
+    """Every desk of two kinds and up to three limits with numbers from -1 to 1, but for the order of the limits."""
+    limits = list(itertools.product((-1, 0, 1), repeat=3))
+    return [made(2, rows) for count in range(4) for rows in itertools.combinations_with_replacement(limits, count)]
+
+
+def least_clashes():
+    """Desks whose limits clash, and no longer when one of them is away."""
+    chance = random.Random(11)
+    desks = [made(kinds, [[0] * kinds + [-1]]) for kinds in range(1, 5)]
+    for kinds, most in itertools.product(range(1, 5), (3, 1000, 10 ** 10)):
+        for count in range(1, kinds + 1):
+            rows = rows_by_chance(chance, count, kinds + 1, most)
+            while rank([row[:-1] for row in rows]) < count:
+                rows = rows_by_chance(chance, count, kinds + 1, most)
+            often = [chance.randint(1, 9) for row in rows]
+            last = [-sum(s * row[k] for s, row in zip(often, rows)) for k in range(kinds + 1)]
+            last[-1] -= chance.randint(1, 5)
+            rows.insert(chance.randint(0, count), last)
+            desks.append(made(kinds, rows))
+    return desks
+
+
+def rank(rows):
+    rows = [[Fraction(number) for number in row] for row in rows]
+    found = 0
+    for column in range(len(rows[0])):
+        pivots = [k for k in range(found, len(rows)) if rows[k][column] != 0]
+        if pivots:
+            rows[found], rows[pivots[0]] = rows[pivots[0]], rows[found]
+            for k in range(found + 1, len(rows)):
+                often = rows[k][column] / rows[found][column]
+                rows[k] = [a - often * b for a, b in zip(rows[k], rows[found])]
+            found += 1
+    return found
+
+
+def desks_beyond():
+    """Desks with more limits and greater numbers than desk_of makes."""
+    chance = random.Random(12)
+    desks = []
+    for kinds, count, most in itertools.product(range(1, 5), (11, 30), (3, 10 ** 30)):
+        for lowest in (-most, 0):
+            limits = []
+            for place in range(count):
+                weights = tuple(chance.randint(-most, most) for kind in range(kinds))
+                limits.append((weights, chance.randint(lowest, 2 * most)))
+            desks.append((kinds, tuple(limits)))
+    return desks
+
+
+def no_amount_below(often):
+    """Rows of limits by which no amount is below nought, each taken so often."""
+    return tuple(tuple(-often if k == kind else 0 for k in range(5)) for kind in range(4))
+
+
+# By other choices of steps than the first thing by number these come round for ever. Each is rows and a goal.
+ROUND = (
+    # Beale, Kuhn, Chvatal, and Kuhn's without the bound.
+    (no_amount_below(4) + ((1, -32, -4, 36, 0), (2, -48, -2, 12, 0), (0, 0, 4, 0, 4)), (3, -80, 2, -24)),
+    (no_amount_below(3) + ((-6, -27, 3, 27, 0), (1, 3, -1, -6, 0), (6, 9, -3, -36, 6)), (2, 3, -1, -12)),
+    (no_amount_below(2) + ((1, -11, -5, 18, 0), (1, -3, -1, 2, 0), (2, 0, 0, 0, 2)), (10, -57, -9, -24)),
+    (no_amount_below(3) + ((-6, -27, 3, 27, 0), (1, 3, -1, -6, 0)), (2, 3, -1, -12)),
+    # Found by trying many.
+    (((1, 1, 0, 0, 0), (2, 1, 1, 1, 0), (0, 0, 1, -2, 0), (1, -1, 1, -1, 0), (2, 1, 1, -1, 0), (-2, 0, 1, 0, 0),
+      (0, -1, 1, -2, 0), (1, -1, -2, -2, 0)), (2, 2, 2, 1)),
+    (((6, 9, -16, 1, 0), (14, -11, -19, 6, 0), (7, -8, -20, -3, 0), (-9, 7, 8, 10, 0), (-1, -10, -1, 1, 0),
+      (-12, -20, 20, 1, 0), (19, -11, 8, 0, 0)), (9, 4, -16, 0)),
+    (no_amount_below(1) + ((-2, 1, 2, -1, 0), (-1, 1, -2, 2, 0), (0, 1, -1, -2, 0), (2, -1, 1, 0, 0)), (-1, 2, 1, 0)),
+    (no_amount_below(1) + ((-4, 1, -2, 3, 0), (2, 0, 1, 1, 0), (3, 3, 1, -5, 0)), (1, -2, 1, 0)),
+    (((-4, -4, -5, 2, 0), (-5, 0, 0, -5, 0), (-4, -1, 4, 1, 0), (3, -2, 3, -4, 0), (4, 2, 4, -4, 0), (-3, -1, 2, 3, 0),
+      (3, -5, 1, -5, 0), (4, 1, -1, -3, 0), (-3, -3, -3, -3, 0), (0, -2, 3, -2, 0)), (3, 0, 5, 1)),
+    # These come round on the way to a first point.
+    (((-1, 0, 0, 0, -2), (0, -1, 0, 0, 2), (0, 0, -1, 0, -1), (0, 0, 0, -1, 3), (-3, 5, 3, 2, -4), (-1, -2, -3, 3, -2),
+      (4, -5, 1, 3, 1), (3, -2, -5, -1, -2)), (1, 1, 1, 1)),
+    (((1, -2, 1, -1, -2), (-1, -1, 1, 2, 0), (2, 1, 1, -2, 1), (2, 2, 0, 1, -1), (0, 1, -1, 1, 2), (-1, -1, -2, 1, -1),
+      (-2, -2, -2, 1, 0), (-1, 0, -1, 1, 1), (0, 2, 1, -1, 2), (1, 2, 1, 1, 2)), (1, 1, 1, 1)),
+    (((1, 0, -1, -2, 0), (-2, 0, 1, -2, 2), (1, -2, 0, 0, 2), (2, 0, 0, 1, -1), (-2, -1, -2, 0, -2), (2, 2, 0, 0, 2),
+      (0, -1, 2, -1, -1), (0, 1, -1, 1, 2), (2, -2, 1, 1, 2), (1, 2, 0, 0, -2)), (1, 1, 1, 1)),
+    (((-1, 0, 0, 0, -9), (0, -1, 0, 0, -1), (0, 0, -1, 0, 18), (0, 0, 0, -1, -2), (-18, -2, -13, -7, -14),
+      (18, -19, -18, -18, -4), (-2, -19, -9, 14, 7), (12, -6, -12, 19, -16)), (1, 1, 1, 1)),
+)
+
+
+def desks_that_come_round():
+    """Tuples of a desk and a goal, the limits in several orders."""
+    told = []
+    for limits, goal in ROUND:
+        for turn in range(len(limits)):
+            moved = limits[turn:] + limits[:turn]
+            told.append((made(4, moved), list(goal)))
+            told.append((made(4, moved[::-1]), list(goal)))
+    return told
+
+
+def hard_desks():
+    """Desks of 4 kinds and 10 limits or nearly, at which many limits meet."""
+    signs = list(itertools.product((-1, 1), repeat=4))
+    desks = [
+        made(4, [list(row) + [0] for row in signs[:10]]),
+        made(4, [list(row) + [1] for row in signs[6:]]),
+        made(4, [list(row) + [-1] for row in signs[3:13]]),
+        made(4, [[1, 1, 1, 1, 1]] * 5 + [[-1, -1, -1, -1, -1]] * 5),
+        made(4, [[1, 1, 1, 1, 1]] * 5 + [[-1, -1, -1, -1, -2]] * 5),
+        made(4, [[MOST, -MOST, MOST - 1, 1 - MOST, 0], [-MOST, MOST, 1 - MOST, MOST - 1, 0]] * 5),
+        made(4, [[MOST - k * k, MOST - k, k - MOST, k ** 3, 0] for k in range(10)]),
+        made(4, [[MOST - k * k, MOST - k, k - MOST, k ** 3, -1] for k in range(10)]),
+        # A cube pressed out of shape, on which many steps lead from corner to corner.
+        made(4, [[-1, 0, 0, 0, 0], [0, -1, 0, 0, 0], [0, 0, -1, 0, 0], [0, 0, 0, -1, 0], [1, 0, 0, 0, 5],
+                 [4, 1, 0, 0, 25], [8, 4, 1, 0, 125], [16, 8, 4, 1, 625]]),
+        made(4, [[1, 2, 3, 4, 5], [-1, -2, -3, -4, -5], [1, 1, 0, 0, 1], [-1, -1, 0, 0, -1], [0, 1, 3, 4, 4],
+                 [0, -1, -3, -4, -4], [1, 0, 0, 1, 1], [0, 0, -1, 0, 0], [0, 0, 1, 0, 0], [0, 0, 0, 0, 0]]),
+    ]
+    return desks + [desk for desk, goal in desks_that_come_round()]
+
+
+def all_desks():
+    return (
+        desks_by_chance(1, 3, 2) + desks_by_chance(2, 2, 9, (0, 9)) + desks_by_chance(3, 1, MOST)
+        + desks_by_chance(4, 1, MOST, (-10, MOST)) + desks_through_a_point(5, 2) + least_clashes() + hard_desks()
+        + desks_beyond()
+    )
+
+
+def goals_for(desk, seed):
+    """Goals of noughts, of small and of great numbers, and such as come from the limits."""
+    kinds, limits = desk
+    chance = random.Random(seed)
+    goals = [[0] * kinds, [chance.randint(-2, 2) for kind in range(kinds)],
+             [chance.choice((-MOST, MOST, chance.randint(-MOST, MOST))) for kind in range(kinds)]]
+    if limits:
+        taken = [chance.choice(limits) for k in range(3)]
+        goals.append([sum(limit[0][kind] for limit in taken) for kind in range(kinds)])
+        goals.append([-number for number in taken[0][0]])
+    return goals

@@ -8,10 +8,14 @@ import unittest
 from fractions import Fraction
 from math import gcd
 
-from limitdesk.desks import desk_of
-from limitdesk.goals import best
+from limitdesk.corners import corners
+from limitdesk.desks import broken, desk_of, just
+from limitdesk.dropping import dropped, filled
+from limitdesk.errors import NoPoint, TooMany
+from limitdesk.goals import best, stretch, top
 from limitdesk.judging import judged
-from limitdesk.limits import cover
+from limitdesk.limits import cover, lean, needless, tight, well_within
+from limitdesk.several import outside, within
 
 MOST = 10 ** 12 - 1
 MOST_SECONDS = 120
@@ -122,6 +126,226 @@ class DeskCase(FractionCase):
         self.assertEqual(come_to[0], list(weights), (desk, place, told))
         self.assertLessEqual(come_to[1], bound, (desk, place, told))
         return kind
+
+    def assert_goal(self, desk, goal):
+        """What best and top tell, by its marks."""
+        kind, worth = self.assert_best(desk, goal)
+        before = list(goal)
+        if kind == "clash":
+            self.assertRaises(NoPoint, top, desk, goal)
+        elif kind == "endless":
+            self.assertIsNone(top(desk, goal))
+        else:
+            self.assertEqual(self.plain(top(desk, goal)), worth)
+        self.assertEqual(goal, before)
+        return kind
+
+    def assert_stretch(self, desk, kind):
+        up = [1 if k == kind else 0 for k in range(desk[0])]
+        ends = []
+        for sign in (-1, 1):
+            told, worth = self.assert_best(desk, [sign * number for number in up])
+            if told == "clash":
+                self.assertRaises(NoPoint, stretch, desk, kind)
+                return
+            ends.append(None if told == "endless" else sign * worth)
+        self.assert_ends(desk, kind, ends)
+
+    def assert_ends(self, desk, kind, ends):
+        told = stretch(desk, kind)
+        self.assertIs(type(told), tuple)
+        self.assertEqual(len(told), 2)
+        self.assertEqual([None if end is None else self.plain(end) for end in told], list(ends), (desk, kind))
+
+    def assert_needless(self, desk, place):
+        """What cover and needless tell, by its marks."""
+        kind = self.assert_cover(desk, place)
+        self.assertIs(needless(desk, place), kind != "point")
+        return kind
+
+    def assert_lean(self, desk):
+        left = desk
+        place = 0
+        while place < len(left[1]):
+            if self.assert_cover(left, place) == "point":
+                place += 1
+            else:
+                left = (left[0], left[1][:place] + left[1][place + 1:])
+        told = lean(desk)
+        self.assertIs(type(told), tuple)
+        self.assertIs(type(told[1]), tuple)
+        self.assertEqual(told, left)
+        for place in range(len(told[1])):
+            self.assertEqual(self.assert_needless(told, place), "point")
+
+    def assert_tight(self, desk):
+        if self.assert_judged(desk) == "clash":
+            self.assertRaises(NoPoint, tight, desk)
+            self.assertRaises(NoPoint, well_within, desk)
+            return None
+        wanted = []
+        for place, (weights, bound) in enumerate(desk[1]):
+            kind, worth = self.assert_best(desk, [-number for number in weights])
+            if kind == "best" and worth == -bound:
+                wanted.append(place)
+        told = tight(desk)
+        self.assertIs(type(told), list)
+        self.assertEqual(told, wanted, desk)
+        rooms = self.rooms(desk, well_within(desk))
+        self.assertEqual([place for place, room in enumerate(rooms) if room == 0], wanted, desk)
+        self.assertTrue(all(room >= 0 for room in rooms), desk)
+        return wanted
+
+    def assert_kept(self, desk, point):
+        rooms = self.rooms(desk, point)
+        self.assertEqual(broken(desk, point), [place for place, room in enumerate(rooms) if room < 0], (desk, point))
+        self.assertEqual(just(desk, point), [place for place, room in enumerate(rooms) if room == 0], (desk, point))
+
+    def assert_desk(self, told, kinds):
+        self.assertIs(type(told), tuple)
+        self.assertEqual(len(told), 2)
+        self.assertIs(type(told[0]), int)
+        self.assertEqual(told[0], kinds)
+        self.assertIs(type(told[1]), tuple)
+        for limit in told[1]:
+            self.assertIs(type(limit), tuple)
+            self.assertEqual(len(limit), 2)
+            self.assertIs(type(limit[0]), tuple)
+            self.assertEqual(len(limit[0]), kinds)
+            self.assertEqual([type(number) for number in limit[0] + limit[1:]], [int] * (kinds + 1))
+
+    def assert_holds(self, desk, weights, bound):
+        """Each point of the desk keeps the limit: seen by prices or by a clash."""
+        kind, worth = self.assert_best(desk, list(weights))
+        if kind != "clash":
+            self.assertEqual(kind, "best", (desk, weights, bound))
+            self.assertLessEqual(worth, bound, (desk, weights, bound))
+
+    def assert_filled(self, desk, kind, point):
+        """Whether an amount can be put into the point; filled is to tell such a one, or None."""
+        before = list(point)
+        told = filled(desk, kind, point)
+        self.assertEqual(point, before)
+        if not has_room(desk, kind, self.plain_list(point, desk[0] - 1)):
+            self.assertIsNone(told, (desk, kind, point))
+            return False
+        self.assertIsNotNone(told, (desk, kind, point))
+        self.assert_point(desk, point[:kind] + [told] + point[kind:])
+        return True
+
+    def assert_dropped(self, desk, kind):
+        """What dropped tells: its limits hold for the first desk, and what the first desk asks holds for it."""
+        told = dropped(desk, kind)
+        self.assert_desk(told, desk[0] - 1)
+        for weights, bound in told[1]:
+            self.assert_holds(desk, weights[:kind] + (0,) + weights[kind:], bound)
+        for weights, bound in limits_on_others(desk, kind):
+            self.assert_holds(told, weights, bound)
+        return told
+
+    def assert_filled_as_dropped(self, desk, kind, told, seed):
+        """A point keeps all limits of the told desk just where an amount can be put in; how often so and how not."""
+        counts = [0, 0]
+        for point in points_to_put_into(desk, kind, told, seed):
+            self.assert_kept(told, point)
+            keeps = all(room >= 0 for room in self.rooms(told, point))
+            self.assertIs(self.assert_filled(desk, kind, point), keeps, (desk, kind, told, point))
+            counts[keeps] += 1
+        return counts
+
+    def assert_outside(self, one, other):
+        """What outside and within tell, by its marks."""
+        told = outside(one, other)
+        self.assertIs(within(one, other), told is None, (one, other))
+        if told is None:
+            for weights, bound in other[1]:
+                self.assert_holds(one, weights, bound)
+            return True
+        self.assert_point(one, told)
+        self.assertTrue(any(room < 0 for room in self.rooms(other, told)), (one, other, told))
+        return False
+
+    def assert_corners(self, desk):
+        """What corners tells, each choice of as many limits as kinds gone through; how many they are."""
+        if desk[0] > 3 or len(desk[1]) > 12:
+            self.assertRaises(TooMany, corners, desk)
+            return None
+        told = corners(desk)
+        self.assertIs(type(told), list)
+        self.assertEqual([self.plain_list(point, desk[0]) for point in told], plain_corners(desk), desk)
+        return len(told)
+
+
+def has_room(desk, kind, amounts):
+    """Whether some amount of the kind can be put in, by what each limit leaves to it."""
+    rooms = [bound - plain_weight(others(weights, kind), amounts) for weights, bound in desk[1]]
+    numbers = [weights[kind] for weights, bound in desk[1]]
+    if any(number == 0 and room < 0 for number, room in zip(numbers, rooms)):
+        return False
+    ends = [room / number for number, room in zip(numbers, rooms) if number > 0]
+    starts = [room / number for number, room in zip(numbers, rooms) if number < 0]
+    return not ends or not starts or max(starts) <= min(ends)
+
+
+def others(numbers, kind):
+    return numbers[:kind] + numbers[kind + 1:]
+
+
+def limits_on_others(desk, kind):
+    """What the desk asks of the other kinds: the limits that don't weigh the kind, and each two that bound it."""
+    told = [(others(weights, kind), bound) for weights, bound in desk[1] if weights[kind] == 0]
+    for (over, over_bound), (under, under_bound) in itertools.product(desk[1], repeat=2):
+        if over[kind] > 0 > under[kind]:
+            weights = tuple(over[kind] * u - under[kind] * o for o, u in zip(over, under))
+            told.append((others(weights, kind), over[kind] * under_bound - under[kind] * over_bound))
+    return told
+
+
+def pair(number):
+    return (Fraction(number).numerator, Fraction(number).denominator)
+
+
+def nudged(point, goal, step):
+    return [pair(Fraction(*amount) + step * number) for amount, number in zip(point, goal)]
+
+
+def points_to_put_into(desk, kind, told, seed):
+    """Points of the other kinds: some by chance, and such as lie in and about the desk told of them."""
+    chance = random.Random(seed)
+    points = [[pair(Fraction(chance.randint(-6, 6), chance.randint(1, 3))) for k in range(told[0])] for j in range(3)]
+    for goal in goals_for(told, seed)[1:]:
+        answer = best(told, goal)
+        if answer[0] != "clash":
+            points.extend(nudged(answer[1], goal, Fraction(step, 10 ** 40)) for step in (-1, 0, 1))
+    for goal in goals_for(desk, seed)[1:3]:
+        answer = best(desk, goal)
+        if answer[0] != "clash":
+            points.append(others(answer[1], kind))
+    covers = [cover(told, place) for place in range(len(told[1]))]
+    return points + [answer[1] for answer in covers if answer[0] == "point"]
+
+
+def solved(rows, bounds):
+    """The one point whose weights by the rows are the bounds; None if there is none or more than one."""
+    rows = [[Fraction(number) for number in row] + [Fraction(bound)] for row, bound in zip(rows, bounds)]
+    for column in range(len(rows)):
+        pivots = [row for row in rows[column:] if row[column] != 0]
+        if not pivots:
+            return None
+        rows.remove(pivots[0])
+        line = [number / pivots[0][column] for number in pivots[0]]
+        rows = [[a - row[column] * b for a, b in zip(row, line)] for row in rows]
+        rows.insert(column, line)
+    return [row[-1] for row in rows]
+
+
+def plain_corners(desk):
+    found = set()
+    for choice in itertools.combinations(desk[1], desk[0]):
+        point = solved([weights for weights, bound in choice], [bound for weights, bound in choice])
+        if point is not None and all(plain_weight(weights, point) <= bound for weights, bound in desk[1]):
+            found.add(tuple(point))
+    return [list(point) for point in sorted(found)]
 
 
 def plain_weight(weights, amounts):

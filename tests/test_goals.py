@@ -14,39 +14,7 @@ HALF = made(2, [[1, 1, 4]])
 CLASH = made(2, [[1, 1, 1], [-1, -1, -2]])
 
 
-class GoalCase(DeskCase):
-    def assert_goal(self, desk, goal):
-        """What best and top tell, by its marks."""
-        kind, worth = self.assert_best(desk, goal)
-        before = list(goal)
-        if kind == "clash":
-            self.assertRaises(NoPoint, top, desk, goal)
-        elif kind == "endless":
-            self.assertIsNone(top(desk, goal))
-        else:
-            self.assertEqual(self.plain(top(desk, goal)), worth)
-        self.assertEqual(goal, before)
-        return kind
-
-    def assert_stretch(self, desk, kind):
-        up = [1 if k == kind else 0 for k in range(desk[0])]
-        ends = []
-        for sign in (-1, 1):
-            told, worth = self.assert_best(desk, [sign * number for number in up])
-            if told == "clash":
-                self.assertRaises(NoPoint, stretch, desk, kind)
-                return
-            ends.append(None if told == "endless" else sign * worth)
-        self.assert_ends(desk, kind, ends)
-
-    def assert_ends(self, desk, kind, ends):
-        told = stretch(desk, kind)
-        self.assertIs(type(told), tuple)
-        self.assertEqual(len(told), 2)
-        self.assertEqual([None if end is None else self.plain(end) for end in told], list(ends), (desk, kind))
-
-
-class Best(GoalCase):
+class Best(DeskCase):
     def test_written_out(self):
         for desk, goal, kind, worth in (
             (SQUARE, [1, 0], "best", (3, 1)), (SQUARE, [-1, 0], "best", (2, 1)), (SQUARE, [0, 1], "best", (5, 2)),
@@ -109,7 +77,7 @@ class Best(GoalCase):
                 self.assert_best(desk, goal)
 
 
-class Stretch(GoalCase):
+class Stretch(DeskCase):
     def test_written_out(self):
         third = Fraction(1, 3)
         self.assert_ends(SQUARE, 0, (-2, 3))
@@ -142,7 +110,7 @@ class Stretch(GoalCase):
                 self.assert_stretch(desk, kind)
 
 
-class Refused(GoalCase):
+class Refused(DeskCase):
     def test_goals(self):
         for desk in (SQUARE, HALF, CLASH, made(2, []), (2, (((10 ** 20, 1), 1),) * 20)):
             for goal in (

@@ -12,48 +12,7 @@ CORNER = made(2, [[1, 0, 3], [0, 1, 2], [1, 1, 5], [1, 1, 4], [0, 0, 0], [-1, -1
 CLASH = made(2, [[1, 1, 1], [-1, -1, -2], [1, 0, 5]])
 
 
-class LimitCase(DeskCase):
-    def assert_needless(self, desk, place):
-        """What cover and needless tell, by its marks."""
-        kind = self.assert_cover(desk, place)
-        self.assertIs(needless(desk, place), kind != "point")
-        return kind
-
-    def assert_lean(self, desk):
-        left = desk
-        place = 0
-        while place < len(left[1]):
-            if self.assert_cover(left, place) == "point":
-                place += 1
-            else:
-                left = (left[0], left[1][:place] + left[1][place + 1:])
-        told = lean(desk)
-        self.assertIs(type(told), tuple)
-        self.assertIs(type(told[1]), tuple)
-        self.assertEqual(told, left)
-        for place in range(len(told[1])):
-            self.assertEqual(self.assert_needless(told, place), "point")
-
-    def assert_tight(self, desk):
-        if self.assert_judged(desk) == "clash":
-            self.assertRaises(NoPoint, tight, desk)
-            self.assertRaises(NoPoint, well_within, desk)
-            return None
-        wanted = []
-        for place, (weights, bound) in enumerate(desk[1]):
-            kind, worth = self.assert_best(desk, [-number for number in weights])
-            if kind == "best" and worth == -bound:
-                wanted.append(place)
-        told = tight(desk)
-        self.assertIs(type(told), list)
-        self.assertEqual(told, wanted, desk)
-        rooms = self.rooms(desk, well_within(desk))
-        self.assertEqual([place for place, room in enumerate(rooms) if room == 0], wanted, desk)
-        self.assertTrue(all(room >= 0 for room in rooms), desk)
-        return wanted
-
-
-class Cover(LimitCase):
+class Cover(DeskCase):
     def test_written_out(self):
         kinds = [self.assert_needless(CORNER, place) for place in range(6)]
         self.assertEqual(kinds, ["point", "point", "shares", "point", "shares", "point"])
@@ -113,7 +72,7 @@ class Cover(LimitCase):
                 self.assert_needless(desk, place)
 
 
-class Lean(LimitCase):
+class Lean(DeskCase):
     def test_written_out(self):
         self.assertEqual(lean(CORNER), made(2, [[1, 0, 3], [0, 1, 2], [1, 1, 4], [-1, -1, 9]]))
         self.assertEqual(lean(CLASH), made(2, [[1, 1, 1], [-1, -1, -2]]))
@@ -157,7 +116,7 @@ class Lean(LimitCase):
                 lean(desk)
 
 
-class Tight(LimitCase):
+class Tight(DeskCase):
     def assert_places(self, desk, places):
         self.assertEqual(self.assert_tight(desk), places)
 
@@ -215,7 +174,7 @@ class Tight(LimitCase):
             self.assert_places(desk, [0, 2])
 
 
-class Refused(LimitCase):
+class Refused(DeskCase):
     def test_places(self):
         for desk in (CORNER, CLASH, made(2, []), made(1, [[0, -1]])):
             for place in NO_PLACES + (len(desk[1]), len(desk[1]) + 1, -len(desk[1]) - 1):

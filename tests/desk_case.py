@@ -6,20 +6,27 @@ import random
 import signal
 import unittest
 from fractions import Fraction
-from math import gcd
+from math import ceil, floor, gcd, prod
 
 from limitdesk.corners import corners
 from limitdesk.desks import broken, desk_of, just
 from limitdesk.dropping import dropped, filled
-from limitdesk.errors import NoPoint, TooMany
+from limitdesk.errors import LimitError, NoPoint, TooMany
 from limitdesk.goals import best, stretch, top
 from limitdesk.judging import judged
 from limitdesk.limits import cover, lean, needless, tight, well_within
 from limitdesk.several import outside, within
+from limitdesk.wholes import whole_points
 
 MOST = 10 ** 12 - 1
 MOST_SECONDS = 120
 NO_PLACES = (-1, -10 ** 30, 10 ** 30, True, False, "0", "", None, 0.0, (0, 1), [0], (), [], {}, object(), Fraction(0))
+NO_FRACTIONS = (
+    1, 0, None, "1", "12", "", "ab", True, 1.5, Fraction(1, 2), [1, 2], [], (), (1,), (1, 2, 3), {}, {0: 1, 1: 2},
+    object(), (2, 4), (0, 2), (3, 3), (-4, 6), (10 ** 30, 10 ** 29), (1, 0), (0, 0), (1, -1), (1, -2), (0, -1),
+    (-1, -2), (True, 1), (1, True), (False, 1), (1, False), ("1", 1), (1, "1"), (None, 1), (1, None), (1.0, 1),
+    (1, 1.0), ((1, 1), 1), (1, (1, 1)), ((1, 1), (1, 1)), (1, [1]),
+)
 
 
 def late(number, frame):
@@ -50,6 +57,11 @@ class DeskCase(FractionCase):
         signal.alarm(count)
         yield
         signal.alarm(MOST_SECONDS)
+
+    def assert_refused(self, error, function, *handed):
+        with self.subTest(function=function, handed=handed):
+            for kind in (error, LimitError, ValueError):
+                self.assertRaises(kind, function, *handed)
 
     def plain_list(self, told, length):
         self.assertIs(type(told), list)
@@ -140,16 +152,23 @@ class DeskCase(FractionCase):
         self.assertEqual(goal, before)
         return kind
 
-    def assert_stretch(self, desk, kind):
+    def plain_ends(self, desk, kind):
+        """The ends of the stretch by the marks of what is best, None if the limits clash."""
         up = [1 if k == kind else 0 for k in range(desk[0])]
         ends = []
         for sign in (-1, 1):
             told, worth = self.assert_best(desk, [sign * number for number in up])
             if told == "clash":
-                self.assertRaises(NoPoint, stretch, desk, kind)
-                return
+                return None
             ends.append(None if told == "endless" else sign * worth)
-        self.assert_ends(desk, kind, ends)
+        return ends
+
+    def assert_stretch(self, desk, kind):
+        ends = self.plain_ends(desk, kind)
+        if ends is None:
+            self.assertRaises(NoPoint, stretch, desk, kind)
+        else:
+            self.assert_ends(desk, kind, ends)
 
     def assert_ends(self, desk, kind, ends):
         told = stretch(desk, kind)
@@ -275,6 +294,21 @@ class DeskCase(FractionCase):
         self.assertEqual([self.plain_list(point, desk[0]) for point in told], plain_corners(desk), desk)
         return len(told)
 
+    def assert_whole_points(self, desk):
+        """What whole_points tells, all whole numbers in the stretches gone through; how many they are."""
+        ends = [self.plain_ends(desk, kind) for kind in range(desk[0])]
+        wanted = [] if None in ends else plain_whole_points(desk, ends)
+        if wanted is None:
+            self.assertRaises(TooMany, whole_points, desk)
+            return None
+        told = whole_points(desk)
+        self.assertIs(type(told), list)
+        for point in told:
+            self.assertIs(type(point), list)
+            self.assertEqual([type(number) for number in point], [int] * desk[0], desk)
+        self.assertEqual(told, wanted, desk)
+        return len(told)
+
 
 def has_room(desk, kind, amounts):
     """Whether some amount of the kind can be put in, by what each limit leaves to it."""
@@ -346,6 +380,19 @@ def plain_corners(desk):
         if point is not None and all(plain_weight(weights, point) <= bound for weights, bound in desk[1]):
             found.add(tuple(point))
     return [list(point) for point in sorted(found)]
+
+
+def plain_whole_points(desk, ends):
+    """None, if there are too many to go through."""
+    if any(None in pair_of_ends for pair_of_ends in ends):
+        return None
+    ranges = [(ceil(least), floor(greatest) + 1) for least, greatest in ends]
+    count = prod(stop - start for start, stop in ranges)
+    if count > 400:
+        return None
+    points = itertools.product(*[range(*each) for each in ranges]) if count else ()
+    return [list(point) for point in points
+            if all(plain_weight(weights, point) <= bound for weights, bound in desk[1])]
 
 
 def plain_weight(weights, amounts):

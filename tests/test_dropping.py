@@ -3,11 +3,11 @@ import random
 import unittest
 
 from desk_case import (
-    DeskCase, MOST, NO_PLACES, desks_beyond, desks_by_chance, desks_of_few_numbers, desks_through_a_point, hard_desks,
-    least_clashes, made, rows_by_chance, spoil,
+    DeskCase, MOST, NO_FRACTIONS, NO_PLACES, desks_beyond, desks_by_chance, desks_of_few_numbers,
+    desks_through_a_point, hard_desks, least_clashes, made, rows_by_chance, spoil,
 )
 from limitdesk.dropping import dropped, filled
-from limitdesk.errors import BadPoint, LimitError, NoPlace, NoPoint
+from limitdesk.errors import BadPoint, NoPlace, NoPoint
 from limitdesk.goals import stretch
 from limitdesk.judging import judged
 from limitdesk.several import within
@@ -209,12 +209,6 @@ class Filled(DeskCase):
 
 
 class Refused(DeskCase):
-    def assert_refused(self, error, function, *handed):
-        with self.subTest(function=function, handed=handed):
-            self.assertRaises(error, function, *handed)
-            self.assertRaises(LimitError, function, *handed)
-            self.assertRaises(ValueError, function, *handed)
-
     def test_kinds(self):
         for desk in (WEDGE, CLASH, made(4, []), made(1, []), made(1, [[0, -1]]), dropped(CLASH, 0)):
             for kind in NO_PLACES + (desk[0], desk[0] + 1, -desk[0]):
@@ -229,10 +223,7 @@ class Refused(DeskCase):
         right = [(1, 2), (0, 1)]
         bad = [tuple(right), [], right[:1], right + [(0, 1)], right * 2, None, True, 2, "", "ab", {}, {0: (0, 1)},
                {(0, 1)}, object(), iter(right), b"ab", 1.5, range(2)]
-        for thing in (
-            (2, 4), (1, 0), (1, -2), (0, 2), (0, -1), (0, 0), (True, 1), (1, True), 1, 0, "1", "", None, [1, 2], (1,),
-            (1, 2, 3), (), (1.0, 1), (1, "1"), True, object(), ((1, 1), (1, 1)), (None, 1),
-        ):
+        for thing in NO_FRACTIONS:
             bad.extend(([thing, (0, 1)], [(0, 1), thing], [thing, thing]))
         for desk in (made(3, [[1, 2, 3, 4]]), made(3, []), CLASH, dropped(made(4, [[1, 2, 3, 4, 5]]), 0)):
             for point in bad:

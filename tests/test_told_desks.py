@@ -4,13 +4,14 @@ import random
 import unittest
 
 from desk_case import DeskCase, MOST, desks_through_a_point, goals_for, hard_desks, least_clashes, made, rows_by_chance
-from limitdesk.desks import broken
+from limitdesk.desks import broken, desk_of
 from limitdesk.dropping import dropped, filled
-from limitdesk.errors import BadPoint, NoGoal, NoPlace, Unlike
+from limitdesk.errors import BadPoint, NoDesk, NoGoal, NoPlace, NoText, Unlike
 from limitdesk.goals import best, stretch
 from limitdesk.judging import judged
 from limitdesk.limits import cover, lean
 from limitdesk.several import outside
+from limitdesk.texts import read, shown
 
 # Without the last kind 22 limits are left, none of them needless.
 MANY = made(4, [
@@ -113,6 +114,24 @@ class Told(DeskCase):
     def test_corners(self):
         counts = [self.assert_corners(desk) for desk in self.desks]
         self.assertGreater(len([count for count in counts if count is not None and count > 2]), 5)
+
+    def test_whole_points(self):
+        counts = [self.assert_whole_points(desk) for desk in self.desks]
+        self.assertGreater(len([count for count in counts if count is not None and count > 2]), 5)
+
+    def test_texts(self):
+        counts = [0, 0]
+        for desk in self.desks:
+            try:
+                again = desk_of(desk[0], [(list(weights), bound) for weights, bound in desk[1]])
+            except NoDesk:
+                counts[0] += 1
+                self.assertRaises(NoText, read, shown(desk))
+            else:
+                counts[1] += 1
+                self.assertEqual(again, desk)
+                self.assertEqual(read(shown(desk)), desk)
+        self.assertGreater(min(counts), 5)
 
     def test_refusals(self):
         for desk in self.desks:
